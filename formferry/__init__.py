@@ -1,0 +1,1 @@
+"""Papers ferried from form to form, and whether all of them arrive."""
