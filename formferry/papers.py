@@ -15,6 +15,21 @@ def all_parts(row):
     return found
 
 
+def tuples_beneath(path, part):
+    return [(path + [place], inner) for place, inner in enumerate(part[1]) if not isinstance(inner, str)]
+
+
+# The tuples of a paper, each ahead of those within it and behind its path.
+def tuples_with_paths(paper):
+    found = []
+    waiting = [([], paper)]
+    while waiting:
+        place = waiting.pop()
+        found.append(place)
+        waiting.extend(list(reversed(tuples_beneath(place[0], place[1]))))
+    return found
+
+
 def size(row):
     return len(all_parts(row))
 

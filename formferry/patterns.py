@@ -88,14 +88,22 @@ def nexts(pattern):
     return told
 
 
+# All that decides whether a word fits, for those who ask of many words.
+def table(pattern):
+    return (bare(pattern), firsts(pattern), lasts(pattern), nexts(pattern))
+
+
 # No sign stands twice in a pattern, so its neighbours alone decide on a word.
-def fits(pattern, word):
+def agrees(told, word):
     if not word:
-        return bare(pattern)
-    if word[0] not in firsts(pattern) or word[-1] not in lasts(pattern):
+        return told[0]
+    if word[0] not in told[1] or word[-1] not in told[2]:
         return False
-    allowed = nexts(pattern)
     for sign, behind in zip(word, word[1:]):
-        if behind not in allowed[sign]:
+        if behind not in told[3][sign]:
             return False
     return True
+
+
+def fits(pattern, word):
+    return agrees(table(pattern), word)

@@ -1,6 +1,9 @@
-"""What several tests need: short ways to write patterns, many patterns, and words looked at by cutting."""
+"""What several tests need: short ways to write patterns, many patterns, papers, forms and ferries, and another way
+to look at words (by cutting) and at papers (by the words of each of their tuples)."""
 
 import itertools
+
+from formferry.errors import FerryError
 
 NONE = ("none",)
 
@@ -30,6 +33,45 @@ def some(pattern):
 
 
 A, B, C, D, Z, TEXT = one("a"), one("b"), one("c"), one("d"), one("z"), one("#")
+
+
+def star():
+    return ("*", [])
+
+
+def nested(deep, inmost):
+    """A paper of so many tuples within one another, a text on each side of the next one."""
+    part = ("inmost", inmost)
+    for level in range(deep - 1, 0, -1):
+        part = ("level", [f"ahead {level}", part, f"behind {level}"])
+    return part
+
+
+def chain(deep):
+    part = ("a", [])
+    for _ in range(deep - 1):
+        part = ("a", [part])
+    return part
+
+
+def lists_in(value):
+    """Each list and dict in a value, as often as it stands there."""
+    found, waiting = [], [value]
+    while waiting:
+        each = waiting.pop()
+        if isinstance(each, (list, dict)):
+            found.append(each)
+        if isinstance(each, (list, tuple)):
+            waiting.extend(each)
+        elif isinstance(each, dict):
+            waiting.extend(each.values())
+    return found
+
+
+def is_new(told, *given):
+    """Whether no list stands twice in what is told, nor in what was handed in."""
+    ids = [id(each) for each in lists_in(told)]
+    return len(set(ids)) == len(ids) and not set(ids) & {id(each) for each in lists_in(list(given))}
 
 
 def tuples_in(pattern):
@@ -140,3 +182,98 @@ class Cutter:
             if any([self.fits(inner, word[begin:end]) for begin in reached]):
                 reached.append(end)
         return len(word) in reached
+
+
+def refusal_of(asked):
+    """The class and the name of the refusal, or None."""
+    try:
+        asked()
+    except FerryError as refusal:
+        return refusal.__class__, refusal.name
+    return None
+
+
+def wanted_faults(form, paper, cutter):
+    """The faults of a paper, by cutting the word of each of its tuples."""
+    root, rules = form[0], dict(form[1])
+    found = []
+
+    def walk(path, part):
+        signs = ["#" if isinstance(each, str) else each[0] for each in part[1]]
+        bad = part[0] not in rules or not cutter.fits(rules[part[0]], signs)
+        if bad or (path == () and part[0] != root):
+            found.append(list(path))
+        for place, each in enumerate(part[1]):
+            if not isinstance(each, str):
+                walk(path + (place,), each)
+
+    walk((), paper)
+    return found
+
+
+def all_rows(names, count, known=None):
+    """All rows of so many parts in all, of texts and of tuples of these names."""
+    known = {} if known is None else known
+    if count not in known:
+        known[count] = [[]] if count == 0 else []
+        for first in range(1, count + 1):
+            heads = [(name, inner) for name in names for inner in all_rows(names, first - 1, known)]
+            heads += ["x"] if first == 1 else []
+            known[count] += [[head] + rest for head in heads for rest in all_rows(names, count - first, known)]
+    return known[count]
+
+
+def all_papers(names, count):
+    return [(name, inner) for name in names for inner in all_rows(names, count - 1)]
+
+
+def random_pattern(chance, signs, loose):
+    """A pattern in which each of these signs stands once; the looser, the more maybe, many and some."""
+    if len(signs) < 2:
+        pattern = one(signs[0]) if signs else NONE
+    else:
+        cut = chance.randint(0 if chance.random() < 0.1 else 1, len(signs) - 1)
+        halves = [random_pattern(chance, signs[:cut], loose), random_pattern(chance, signs[cut:], loose)]
+        pattern = (chance.choice(["row", "any"]), halves)
+    if chance.random() < loose:
+        pattern = (chance.choice(["maybe", "many", "some"]), pattern)
+    return pattern
+
+
+def random_form(chance, names, loose=0.25):
+    rules = []
+    for name in names:
+        signs = chance.sample(names + ["#"], chance.randint(0, len(names) + 1))
+        rules.append((name, random_pattern(chance, signs, loose)))
+    return (chance.choice(names), rules)
+
+
+def random_row(chance, names, count):
+    """A row of at most so many parts in all."""
+    found = []
+    while count > 0 and chance.random() < 0.8:
+        taken = chance.randint(1, count)
+        if chance.random() < 0.3:
+            found.append(chance.choice(["", "x", "*", "#"]))
+            count -= 1
+        else:
+            found.append((chance.choice(names), random_row(chance, names, taken - 1)))
+            count -= taken
+    return found
+
+
+def put_star(chance, row):
+    """Puts a star somewhere into the row."""
+    lists = lists_in(row)
+    chosen = chance.choice(lists)
+    chosen.insert(chance.randint(0, len(chosen)), star())
+
+
+def random_ferry(chance, names):
+    ferry = []
+    for name in chance.sample(names, chance.randint(0, len(names))):
+        row = random_row(chance, names, chance.randint(0, 5))
+        if chance.random() < 0.75:
+            put_star(chance, row)
+        ferry.append((name, row))
+    return ferry

@@ -56,6 +56,12 @@ def bound_names(tree):
             yield node.name
 
 
+def top_names(tree):
+    """What a file defines at its top, as often as it does."""
+    found = [node.name for node in tree.body if isinstance(node, (ast.FunctionDef, ast.ClassDef))]
+    return found + [node.targets[0].id for node in tree.body if isinstance(node, ast.Assign)]
+
+
 def methods_and_fields(tree):
     """What the program's own objects have: methods of classes and what is given to self."""
     found = set()
@@ -126,6 +132,55 @@ class TestLanguage(unittest.TestCase):
                         self.assertEqual(node.level, 0)
                         self.assertRegex(node.module, r"^formferry\.[a-z_]+$")
                         self.assertNotIn("*", [each.name for each in node.names])
+
+    def test_no_two_files_draw_from_one_another(self):
+        drawn = {name: {node.module.split(".")[1] + ".py" for node in tree.body if isinstance(node, ast.ImportFrom)}
+                 for name, tree in self.trees.items()}
+        left = dict(drawn)
+        while left:
+            free = [name for name, others in left.items() if not others & set(left)]
+            self.assertNotEqual(free, [], left)
+            left = {name: others for name, others in left.items() if name not in free}
+
+    def test_each_name_is_drawn_from_the_file_that_defines_it(self):
+        for name, tree in self.trees.items():
+            for node in tree.body:
+                if isinstance(node, ast.ImportFrom):
+                    defined = top_names(self.trees[node.module.split(".")[1] + ".py"])
+                    self.assertLessEqual({each.name for each in node.names}, set(defined), (name, node.lineno))
+
+    def test_names_are_bound_once_at_the_top_and_not_hidden(self):
+        for name, tree in self.trees.items():
+            drawn = [each.asname or each.name for node in tree.body if isinstance(node, ast.ImportFrom)
+                     for each in node.names]
+            tops = top_names(tree) + drawn
+            self.assertEqual(len(set(tops)), len(tops), name)
+            kept = set(drawn).union(node.name for node in tree.body if isinstance(node, ast.ClassDef))
+            for each in ast.walk(tree):
+                if isinstance(each, ast.FunctionDef):
+                    self.assertEqual((set(bound_names(each)) - {each.name}) & kept, set(), (name, each.name))
+
+    def test_errors_are_made_on_the_spot_and_is_stands_beside_none(self):
+        for name, tree in self.trees.items():
+            for node in ast.walk(tree):
+                if isinstance(node, ast.Raise):
+                    self.assertIsInstance(node.exc, ast.Call, (name, node.lineno))
+                if isinstance(node, ast.Compare) and isinstance(node.ops[0], (ast.Is, ast.IsNot)):
+                    sides = [node.left] + node.comparators
+                    plain = [side for side in sides if isinstance(side, ast.Constant)]
+                    self.assertTrue(any(side.value in (None, True, False) for side in plain), (name, node.lineno))
+
+    def test_sets_are_not_kept_and_not_walked(self):
+        for name, tree in self.trees.items():
+            beside = set()
+            for node in ast.walk(tree):
+                if isinstance(node, ast.Compare):
+                    beside.update([node.left] + node.comparators)
+                elif called(node) in ["len", "sorted"]:
+                    beside.update(node.args)
+            for node in ast.walk(tree):
+                if called(node) == "set":
+                    self.assertIn(node, beside, (name, node.lineno))
 
     def test_names(self):
         special = ["__init__", "__eq__", "__repr__", "__str__", "__len__"]

@@ -2,22 +2,7 @@ import copy
 import unittest
 
 from formferry.papers import size, texts, word
-
-
-def nested(deep, inmost):
-    """A paper of so many tuples within one another, a text on each side of the next one."""
-    part = ("inmost", inmost)
-    for level in range(deep - 1, 0, -1):
-        part = ("level", [f"ahead {level}", part, f"behind {level}"])
-    return part
-
-
-def chain(deep):
-    part = ("a", [])
-    for _ in range(deep - 1):
-        part = ("a", [part])
-    return part
-
+from tests.samples import chain, nested
 
 MIXED = [
     "one",
