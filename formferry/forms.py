@@ -1,6 +1,7 @@
 """Forms: whether one holds together, which papers are of it, and the smallest part of each name."""
 
 from formferry.errors import NoName, Twice
+from formferry.grow import grown, plain_words
 from formferry.papers import TEXT_SIGN, tuples_with_paths, word
 from formferry.patterns import agrees, signs, table
 from formferry.reach import standing
@@ -66,22 +67,7 @@ def prices(form):
     return found
 
 
-# A word stands for many parts, so each of them is built anew.
-def least_part(name, known):
-    told = []
-    waiting = [(name, told)]
-    while waiting:
-        job = waiting.pop()
-        if job[0] == TEXT_SIGN:
-            job[1].append("")
-        else:
-            inner = []
-            job[1].append((job[0], inner))
-            waiting.extend([(sign, inner) for sign in reversed(known[job[0]][1])])
-    return told[0]
-
-
 def least(form, name):
     look(form)
     known = standing(form[1])
-    return least_part(name, known) if name in known else None
+    return grown((name, None), plain_words(known)) if name in known else None

@@ -107,3 +107,11 @@ def agrees(told, word):
 
 def fits(pattern, word):
     return agrees(table(pattern), word)
+
+
+def copied(pattern):
+    if pattern[0] in ("row", "any"):
+        return (pattern[0], [copied(inner) for inner in pattern[1]])
+    if pattern[0] in ("maybe", "many", "some"):
+        return (pattern[0], copied(pattern[1]))
+    return pattern

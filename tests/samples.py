@@ -227,6 +227,96 @@ def all_papers(names, count):
     return [(name, inner) for name in names for inner in all_rows(names, count - 1)]
 
 
+class AllPapers:
+    """All papers of a form of so many parts, laid together as the sorts of its patterns tell."""
+
+    def __init__(self, form):
+        self.root, self.rules = form[0], dict(form[1])
+        self.known = {}
+
+    def papers(self, count):
+        return self.parts(self.root, count)
+
+    def parts(self, sign, count):
+        if count < 1 or sign == "#":
+            return ["x"] if count == 1 else []
+        return [(sign, inner) for inner in self.rows(self.rules[sign], count - 1)]
+
+    def rows(self, pattern, count):
+        """Each row once: one that can be cut in several ways is laid as often."""
+        key = (pattern[0], id(pattern[-1]), count)
+        if key not in self.known:
+            self.known[key] = list({repr(each): each for each in self.laid(pattern, count)}.values())
+        return self.known[key]
+
+    def laid(self, pattern, count):
+        kind, inner = pattern[0], pattern[-1]
+        if kind == "one":
+            return [[part] for part in self.parts(inner, count)]
+        if kind == "any":
+            return [each for choice in inner for each in self.rows(choice, count)]
+        if kind == "row":
+            return self.side_by_side(inner, count)
+        if kind == "some":
+            return self.side_by_side([inner, ("many", inner)], count)
+        found = [[]] if count == 0 else []
+        if kind == "maybe":
+            found += self.rows(inner, count)
+        if kind == "many" and count > 0:
+            found += [first + rest for taken in range(1, count + 1) for first in self.rows(inner, taken)
+                      for rest in self.rows(pattern, count - taken)]
+        return found
+
+    def side_by_side(self, patterns, count):
+        if not patterns:
+            return [[]] if count == 0 else []
+        return [first + rest for taken in range(count + 1) for first in self.rows(patterns[0], taken)
+                for rest in self.side_by_side(patterns[1:], count - taken)]
+
+
+def filled(written, inner):
+    """A ferry's row with the star exchanged for these parts."""
+    found = []
+    for part in written:
+        if isinstance(part, str):
+            found.append(part)
+        elif part[0] == "*":
+            found.extend(inner)
+        else:
+            found.append((part[0], filled(part[1], inner)))
+    return found
+
+
+def followed(ferry, row):
+    """What a row is ferried to, from the inmost parts on."""
+    rules, found = dict(ferry), []
+    for part in row:
+        if isinstance(part, str):
+            found.append(part)
+        else:
+            found += filled(rules.get(part[0], [(part[0], [star()])]), followed(ferry, part[1]))
+    return found
+
+
+def comes_in(ferry, form, paper, cutter):
+    """Whether a paper arrives, by following the ferry and cutting the words of what comes of it."""
+    came = followed(ferry, [paper])
+    return len(came) == 1 and not isinstance(came[0], str) and wanted_faults(form, came[0], cutter) == []
+
+
+def first_lost(form, ferry, other, limit, enough=3000):
+    """The least size of a paper that does not arrive, or None; and up to which size all papers were tried."""
+    papers, cutter, tried = AllPapers(form), Cutter(), 0
+    for count in range(1, limit + 1):
+        for paper in papers.papers(count):
+            tried += 1
+            if not comes_in(ferry, other, paper, cutter):
+                return count, count
+        if tried > enough:
+            return None, count
+    return None, limit
+
+
 def random_pattern(chance, signs, loose):
     """A pattern in which each of these signs stands once; the looser, the more maybe, many and some."""
     if len(signs) < 2:

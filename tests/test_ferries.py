@@ -4,8 +4,8 @@ import unittest
 
 from formferry.errors import NoName, Stars, Twice
 from formferry.ferries import arrives, ferried, joined, look_ferry
-from tests.samples import NONE, chain, is_new, lists_in, many, maybe, names, nested, one, random_ferry, random_row
-from tests.samples import refusal_of, star
+from tests.samples import NONE, chain, followed, is_new, lists_in, many, maybe, names, nested, one, random_ferry
+from tests.samples import random_row, refusal_of, star
 
 FORM = ("a", [("a", NONE)])
 
@@ -86,28 +86,6 @@ BY_HAND = [
     ([("b", [star(), "b"]), ("a", ["a", star()])], [("a", [("b", ["x"]), ("b", [("a", [])])]), ("b", [])],
      ["a", "x", "b", "a", "b", "b"]),
 ]
-
-
-def wanted_row(ferry, row):
-    """What a row is ferried to, by building what is within first and putting it in the star's place."""
-    rules = dict(ferry)
-
-    def put(pattern_row, within):
-        found = []
-        for part in pattern_row:
-            if part == ("*", []):
-                found += within
-            else:
-                found.append(part if isinstance(part, str) else (part[0], put(part[1], within)))
-        return found
-
-    found = []
-    for part in row:
-        if isinstance(part, str):
-            found.append(part)
-        else:
-            found += put(rules.get(part[0], [(part[0], [star()])]), wanted_row(ferry, part[1]))
-    return found
 
 
 class TestLookFerry(unittest.TestCase):
@@ -192,7 +170,7 @@ class TestFerried(Checks):
         for ferry, row, wanted in BY_HAND:
             with self.subTest(ferry=ferry, row=row):
                 self.check(ferry, row, wanted)
-                self.assertEqual(wanted_row(ferry, row), wanted)
+                self.assertEqual(followed(ferry, row), wanted)
 
     def test_kinds(self):
         told = ferried([("a", [("b", [star()])])], ["x", ("a", [("c", [])])])
@@ -207,7 +185,7 @@ class TestFerried(Checks):
             ferry = random_ferry(chance, ["a", "b", "c", "d"])
             row = random_row(chance, ["a", "b", "c", "d", "e"], 14)
             with self.subTest(ferry=ferry, row=row):
-                self.check(ferry, row, wanted_row(ferry, row))
+                self.check(ferry, row, followed(ferry, row))
 
     def test_what_is_told_stays_and_is_the_askers_own(self):
         for ferry, row, wanted in BY_HAND:
@@ -243,7 +221,7 @@ class TestLargeRows(Checks):
             self.check([("a", [])], row, [])
             self.check([("a", ["x", star()])], row, ["x"] * deep)
             self.check([("a", ["(", star(), ")"])], row, ["("] * deep + [")"] * deep)
-            renamed = self.check([("a", [("b", [star()])])], row, wanted_row([("a", [("b", [star()])])], row))
+            renamed = self.check([("a", [("b", [star()])])], row, followed([("a", [("b", [star()])])], row))
             self.assertEqual(renamed[0][0], "b")
             texts = [nested(deep, ["in"])]
             self.check([("level", [star()]), ("inmost", [star()])], texts,

@@ -205,6 +205,36 @@ class TestLanguage(unittest.TestCase):
                     with self.subTest(file=name, line=node.lineno):
                         self.assertIn(node.attr, own.union(METHODS))
 
+    def test_no_name_is_a_method_and_a_value(self):
+        methods, values = set(), set()
+        for tree in self.trees.values():
+            for node in ast.walk(tree):
+                if isinstance(node, ast.ClassDef):
+                    methods.update(each.name for each in node.body if isinstance(each, ast.FunctionDef))
+                elif isinstance(node, ast.Attribute) and isinstance(node.ctx, ast.Store):
+                    values.add(node.attr)
+        self.assertEqual(methods & values, set())
+        for kind in (str, int, list, dict, set, bytes):
+            self.assertEqual((methods | values - {"name"}) & set(dir(kind)) - {"__init__"}, set())
+
+    def test_values_at_the_top_are_plain(self):
+        for name, tree in self.trees.items():
+            for node in tree.body:
+                if isinstance(node, ast.Assign):
+                    value = ast.literal_eval(node.value)
+                    inner = list(value.values()) if isinstance(value, dict) else value
+                    if isinstance(inner, list):
+                        self.assertFalse(any(isinstance(each, (list, dict)) for each in inner), (name, node.lineno))
+
+    def test_classes_hold_methods_alone(self):
+        for name, tree in self.trees.items():
+            for node in ast.walk(tree):
+                if isinstance(node, ast.ClassDef):
+                    self.assertIn(node, tree.body)
+                    self.assertLessEqual(len(node.bases), 1)
+                    for each in node.body:
+                        self.assertIsInstance(each, (ast.FunctionDef, ast.Pass), (name, node.name))
+
     def test_walked_on_the_spot(self):
         for name, tree in self.trees.items():
             walked = set()
