@@ -99,16 +99,16 @@ def read_paper(line):
 
 
 # No name has a blank in it, so the first place that looks like the middle is the middle.
-def read_rule(line, middle, read):
+def read_rule(line, middle, reader):
     cut = line.partition(middle)
-    told = read(cut[2])
+    told = reader(cut[2])
     return (cut[0], told) if is_name(cut[0]) and told is not None else None
 
 
-def read_rules(lines, middle, read, first):
+def read_rules(lines, middle, reader, first):
     rules = []
     for place, line in enumerate(lines, start=first):
-        rule = read_rule(line, middle, read)
+        rule = read_rule(line, middle, reader)
         if rule is None:
             raise NoText(place)
         rules.append(rule)
